@@ -4,18 +4,17 @@ import (
 	"strings"
 
 	"synoptic/api"
-	"synoptic/clock"
 	"synoptic/element"
 	"synoptic/place"
+	"synoptic/stamp"
 )
 
 // kinds holds the words of the kinds of stations, ascending from Land on.
 var kinds = [...]string{"LAND", "SHIP", "BUOY"}
 
 const (
-	headWords   = 3 // kind, name and time
-	mostWords   = headWords + 1 + api.MaxElements
-	stampLength = 6
+	headWords = 3 // kind, name and time
+	mostWords = headWords + 1 + api.MaxElements
 )
 
 // Format returns the text of a report; the error of Validate if it is not valid.
@@ -23,7 +22,8 @@ func Format(r api.Report) (string, api.Errno) {
 	if e := Validate(r); e != api.OK {
 		return "", e
 	}
-	words := []string{kinds[r.Kind-api.Land], r.Name, stamp(r.Time)}
+	time, _ := stamp.Format(r.Time)
+	words := []string{kinds[r.Kind-api.Land], r.Name, time}
 	if r.Kind != api.Land {
 		text, _ := place.Format(r.Place)
 		words = append(words, text)
@@ -33,17 +33,6 @@ func Format(r api.Report) (string, api.Errno) {
 		words = append(words, text)
 	}
 	return strings.Join(words, " "), api.OK
-}
-
-// stamp returns the digits of the day of the month, the hour and the minute of a minute.
-func stamp(minute int) string {
-	c, _ := clock.Date(minute)
-	return twoDigits(c.Day) + twoDigits(c.Hour) + twoDigits(c.Minute)
-}
-
-// twoDigits returns the text of a number from 0 to 99, with a leading zero.
-func twoDigits(n int) string {
-	return string([]byte{byte('0' + n/10), byte('0' + n%10)})
 }
 
 // Parse returns the valid report that has the text s and is readable near a minute; ErrRange if this is not in the range 0 to MaxMinute, and ErrSyntax if there is no such report.
@@ -68,7 +57,7 @@ func read(words []string, near int) (api.Report, api.Errno) {
 	if e != api.OK {
 		return api.Report{}, e
 	}
-	time, e := resolve(words[2], near)
+	time, e := stamp.Parse(words[2], near)
 	if e != api.OK {
 		return api.Report{}, e
 	}
@@ -91,27 +80,6 @@ func kindOf(word string) (int, api.Errno) {
 		}
 	}
 	return 0, api.ErrSyntax
-}
-
-// resolve returns the minute nearest to near that has this stamp.
-func resolve(word string, near int) (int, api.Errno) {
-	if len(word) != stampLength || strings.Trim(word, "0123456789") != "" {
-		return 0, api.ErrSyntax
-	}
-	minute, e := clock.Resolve(number(word[0:2]), number(word[2:4]), number(word[4:6]), near)
-	if e != api.OK {
-		return 0, api.ErrSyntax
-	}
-	return minute, api.OK
-}
-
-// number returns the value of a text of digits.
-func number(s string) int {
-	n := 0
-	for i := range len(s) {
-		n = 10*n + int(s[i]-'0')
-	}
-	return n
 }
 
 // readPlace returns the place of a report of this kind, and the words behind it.
